@@ -1,0 +1,1 @@
+"""Ringfences: where threads with store buffers need fences."""

@@ -1,0 +1,103 @@
+"""The interface as the document writes it, and the plain bounds on the files of the package."""
+
+import ast
+import importlib
+import inspect
+import os
+import unittest
+
+import ringfences
+
+FOLDER = os.path.dirname(ringfences.__file__)
+
+INTERFACE = {
+    "programs": {
+        "is_program": ["value"],
+        "is_buffers": ["value"],
+        "variables_of": ["program"],
+        "accesses": ["program"],
+        "meets": ["program", "one", "other"],
+    },
+    "steps": {
+        "is_step": ["value"],
+        "start": ["program"],
+        "after": ["program", "buffers", "state", "step"],
+        "possible": ["program", "buffers", "state"],
+    },
+    "runs": {
+        "is_run": ["program", "buffers", "value"],
+        "states_of": ["program", "buffers", "run"],
+        "walk": ["program", "buffers", "run"],
+        "is_complete": ["program", "buffers", "run"],
+        "is_plain": ["program", "buffers", "run"],
+        "completed": ["program", "buffers", "run"],
+    },
+}
+GENERATORS = ["walk"]
+LIBRARY = ("heapq", "math", "itertools", "collections", "__future__")
+
+
+def files():
+    return sorted(name for name in os.listdir(FOLDER) if name != "__pycache__")
+
+
+def text_of(name):
+    with open(os.path.join(FOLDER, name), encoding="utf-8") as held:
+        return held.read()
+
+
+class Interface(unittest.TestCase):
+    def test_names_and_arguments(self):
+        for name, functions in INTERFACE.items():
+            module = importlib.import_module("ringfences." + name)
+            for function, wanted in functions.items():
+                parameters = inspect.signature(getattr(module, function)).parameters.values()
+                self.assertEqual(wanted, [parameter.name for parameter in parameters], function)
+                for parameter in parameters:
+                    self.assertIs(inspect.Parameter.POSITIONAL_OR_KEYWORD, parameter.kind, function)
+                    self.assertIs(inspect.Parameter.empty, parameter.default, function)
+
+    def test_defined_in_their_files(self):
+        for name, functions in INTERFACE.items():
+            defined = [
+                node.name for node in ast.parse(text_of(name + ".py")).body
+                if isinstance(node, (ast.FunctionDef, ast.ClassDef))
+            ]
+            for function in functions:
+                self.assertEqual(1, defined.count(function), function)
+
+    def test_generators(self):
+        for name, functions in INTERFACE.items():
+            module = importlib.import_module("ringfences." + name)
+            for function in functions:
+                wanted = function in GENERATORS
+                self.assertIs(wanted, inspect.isgeneratorfunction(getattr(module, function)), function)
+
+
+class Files(unittest.TestCase):
+    def test_only_python_files(self):
+        self.assertIn("__init__.py", files())
+        for name in files():
+            self.assertRegex(name, r"^[a-z_]+\.py$")
+
+    def test_characters_and_sizes(self):
+        for name in files():
+            lines = text_of(name).split("\n")
+            self.assertLess(len(lines), 400, name)
+            for line in lines:
+                self.assertLessEqual(len(line), 120, name)
+                self.assertTrue(all(" " <= letter <= "~" for letter in line), name)
+
+    def test_functions_are_small(self):
+        for name in files():
+            for node in ast.walk(ast.parse(text_of(name))):
+                if isinstance(node, ast.FunctionDef):
+                    self.assertLessEqual(node.end_lineno - node.lineno + 1, 40, node.name)
+
+    def test_imports(self):
+        for name in files():
+            for node in ast.walk(ast.parse(text_of(name))):
+                self.assertNotIsInstance(node, ast.Import, name)
+                if isinstance(node, ast.ImportFrom):
+                    self.assertEqual(0, node.level, name)
+                    self.assertIn(node.module.split(".")[0], ("ringfences",) + LIBRARY, name)
