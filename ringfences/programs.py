@@ -63,6 +63,11 @@ def writes(instruction):
     return instruction[0] in ("store", "swap")
 
 
+def loads(instruction):
+    """Whether an instruction is a load or a swap."""
+    return instruction[0] in ("load", "swap")
+
+
 def variables_of(program):
     """The variables of a program, ascending."""
     return tuple(sorted({row[1] for thread in program for row in thread if is_access(row)}))

@@ -119,6 +119,16 @@ def stores_to(program, state, thread, variable):
     return [at for at in state[1][thread] if program[thread][at][1] == variable]
 
 
+def source_of(program, state, place):
+    """What the load or swap at a place reads in a state: the place of a store or swap, or None."""
+    thread, at = place
+    variable = program[thread][at][1]
+    stores = stores_to(program, state, thread, variable)
+    if stores:
+        return (thread, stores[-1])
+    return state[2][variables_of(program).index(variable)]
+
+
 def written(program, memory, variable, place):
     """The memory after the store or swap at a place wrote a variable."""
     return replaced(memory, variables_of(program).index(variable), place)

@@ -39,11 +39,58 @@ RUNS = '''
 6
 '''
 
+STORIES = '''
+>>> from ringfences.stories import plain_order, shows_plain, shows_story_ring, story_of, story_ring
+>>> STORY = story_of(TWO, LINE, RUN)
+>>> STORY
+((((0, 1), None), ((1, 1), None)), (('x', ((0, 0),)), ('y', ((1, 0),))))
+>>> [plain_order(TWO, STORY), shows_story_ring(TWO, STORY, ((0, 0), (0, 1), (1, 0), (1, 1))), shows_story_ring(TWO, STORY, ((0, 0), (0, 1)))]
+[None, True, False]
+>>> OTHER = ((((0, 1), (1, 0)), ((1, 1), None)), STORY[1])
+>>> [shows_plain(TWO, OTHER, (1, 1, 0, 0)), shows_plain(TWO, OTHER, (0, 0, 1, 1)), story_ring(TWO, OTHER)]
+[True, False, None]
+>>> story_of(TWO, LINE, RUN[:5])
+raises Incomplete()
+'''
+
+FACTS = '''
+>>> from ringfences.facts import facts, is_torn, shows_torn_ring
+>>> START = (("do", 0), ("do", 0), ("do", 1))
+>>> [facts(TWO, LINE, START), is_torn(TWO, LINE, START), is_torn(TWO, LINE, START + (("do", 1),))]
+[(((0, 0), (0, 1)), ((0, 1), (1, 0))), False, True]
+>>> shows_torn_ring(TWO, LINE, START + (("do", 1),), ((1, 0), (1, 1), (0, 0), (0, 1)))
+True
+'''
+
+PAIRS = '''
+>>> from ringfences.pairs import is_faithful, least_room, live_pairs, loose_pairs, ring_for, shows_ring
+>>> [loose_pairs(TWO, LINE), live_pairs(TWO, LINE), ring_for(TWO, LINE, (0, 0, 1)), shows_ring(THREE, (0, 0, 1), ((1, 0, 0), (2, 0, 1)))]
+[((0, 0, 1), (1, 0, 1)), ((0, 0, 1), (1, 0, 1)), ((1, 0, 1),), True]
+>>> [is_faithful(MESSAGE, LINE), is_faithful(MESSAGE, LANES), least_room(TWO, "line"), least_room(MESSAGE, "line")]
+[True, False, 1, None]
+>>> OWN = ((("store", "x"), ("store", "y"), ("load", "y")),)
+>>> [loose_pairs(OWN, LINE), loose_pairs(OWN, LANES), loose_pairs(((("store", "x"), ("store", "z"), ("load", "y")),), ("line", 1))]
+[(), ((0, 0, 1), (0, 0, 2)), ((0, 1, 2),)]
+>>> ring_for(MESSAGE, LINE, (0, 0, 1))
+raises NotLive(pair=(0, 0, 1))
+'''
+
+TEARING = '''
+>>> from ringfences.tearing import fewest_steps, shows_tearing, tearing_run
+>>> [fewest_steps(TWO, LINE), fewest_steps(THREE, LINE), fewest_steps(MESSAGE, LANES), fewest_steps(MESSAGE, LINE)]
+[4, 6, 5, None]
+>>> BACK = ((("store", "x"), ("load", "y")), (("store", "y"), ("store", "x")))
+>>> [fewest_steps(BACK, LINE), fewest_steps(BACK, LANES), len(tearing_run(BACK, LINE)), shows_tearing(TWO, LINE, START)]
+[6, 5, 6, False]
+'''
+
 
 class Examples(unittest.TestCase):
-    def check(self, text, many):
+    def check(self, text, many, *ahead):
         names = {}
-        run_examples(NAMES, names)
+        # Some examples use names of the ones ahead of them.
+        for other in (NAMES,) + ahead:
+            run_examples(other, names)
         pairs = run_examples(text, names)
         # A runner that found no example would pass anything.
         self.assertEqual(many, len(pairs))
@@ -58,3 +105,15 @@ class Examples(unittest.TestCase):
 
     def test_runs(self):
         self.check(RUNS, 3)
+
+    def test_stories(self):
+        self.check(STORIES, 4, RUNS)
+
+    def test_facts(self):
+        self.check(FACTS, 2)
+
+    def test_pairs(self):
+        self.check(PAIRS, 4)
+
+    def test_tearing(self):
+        self.check(TEARING, 2, FACTS)

@@ -32,6 +32,33 @@ INTERFACE = {
         "is_plain": ["program", "buffers", "run"],
         "completed": ["program", "buffers", "run"],
     },
+    "stories": {
+        "story_of": ["program", "buffers", "run"],
+        "is_story": ["program", "value"],
+        "plain_order": ["program", "story"],
+        "shows_plain": ["program", "story", "value"],
+        "story_ring": ["program", "story"],
+        "shows_story_ring": ["program", "story", "value"],
+    },
+    "facts": {
+        "facts": ["program", "buffers", "run"],
+        "is_torn": ["program", "buffers", "run"],
+        "torn_ring": ["program", "buffers", "run"],
+        "shows_torn_ring": ["program", "buffers", "run", "value"],
+    },
+    "pairs": {
+        "loose_pairs": ["program", "buffers"],
+        "live_pairs": ["program", "buffers"],
+        "ring_for": ["program", "buffers", "pair"],
+        "shows_ring": ["program", "pair", "value"],
+        "is_faithful": ["program", "buffers"],
+        "least_room": ["program", "word"],
+    },
+    "tearing": {
+        "fewest_steps": ["program", "buffers"],
+        "tearing_run": ["program", "buffers"],
+        "shows_tearing": ["program", "buffers", "value"],
+    },
 }
 GENERATORS = ["walk"]
 LIBRARY = ("heapq", "math", "itertools", "collections", "__future__")
