@@ -421,3 +421,52 @@ def run_examples(text, names):
             wanted = repr(ast.literal_eval(wanted))
         pairs.append((wanted, came))
     return pairs
+
+
+def all_remedies(program, words=("fence", "swap")):
+    """All remedies of a program, ascending, as point [11] words it."""
+    fences = [("fence", thread, at) for thread, rows in enumerate(program) for at in range(len(rows) + 1)]
+    swaps = [
+        ("swap", thread, at)
+        for thread, rows in enumerate(program) for at, row in enumerate(rows) if row[0] == "store"
+    ]
+    return [remedy for remedy in fences + swaps if remedy[0] in words]
+
+
+def cut_pairs(remedies, pairs):
+    """The pairs that some remedy cuts, as point [11] words it."""
+    found = []
+    for thread, early, late in pairs:
+        for word, other, at in remedies:
+            if thread == other and (early < at <= late or word == "swap" and at == early):
+                found.append((thread, early, late))
+                break
+    return found
+
+
+def subsets(items):
+    """All tuples of some of the items, in their order, the shortest first."""
+    for many in range(len(items) + 1):
+        yield from itertools.combinations(items, many)
+
+
+def permuted(given):
+    """Dicts with the same items in other orders."""
+    names = list(given)
+    for many in range(len(names)):
+        for turned in (names[many:] + names[:many], names[many:] + names[:many][::-1], names[::-1]):
+            yield {name: given[name] for name in turned}
+
+
+def dense_programs(many, seed, least=3, most=6):
+    """Programs of two or three threads with many live pairs, the same ones at each call."""
+    source = random.Random(seed)
+    programs = []
+    for _ in range(many):
+        threads = []
+        for _ in range(source.choice((2, 2, 3))):
+            words = [source.choice(("store",) * 6 + ("load",) * 6 + ("swap", "fence"))
+                     for _ in range(source.randint(least, most))]
+            threads.append(tuple((word,) if word == "fence" else (word, source.choice("xyz")) for word in words))
+        programs.append(tuple(threads))
+    return programs

@@ -1,19 +1,23 @@
-"""What point [2] says of every function of points [7] to [10]: names, equal calls, arguments that stay."""
+"""What point [2] says of every function from point [7] on: names, equal calls, arguments that stay."""
 
 import copy
 import inspect
 import unittest
 
-from ringfences import facts, pairs, stories, tearing
-from ringfences.errors import Incomplete, NotLive
-from tests.helper import LANES, LINE, MESSAGE, MIXED, THREE, TWO
-from tests.helper import is_all_tuples
+from ringfences import exploring, facts, needless, pairs, prices, remedies, stories, tearing
+from ringfences.errors import Incomplete, NotLive, TooLong, TooMany, Unfaithful
+from tests.helper import GREATEST, LANES, LINE, MESSAGE, MIXED, THREE, TWO
+from tests.helper import is_all_tuples, permuted
 
 RUN = (("do", 0), ("do", 0), ("do", 1), ("do", 1), ("flush", 0, "x"), ("flush", 1, "y"))
 STORY = ((((0, 1), None), ((1, 1), None)), (("x", ((0, 0),)), ("y", ((1, 0),))))
 OTHER = ((((0, 1), (1, 0)), ((1, 1), None)), STORY[1])
 RING = ((0, 0), (0, 1), (1, 0), (1, 1))
 TWISTED = (["do", 0], {"a": [1, (2, {})]}, [])
+CURE = (("fence", 1, 1), ("swap", 0, 0))
+PRICES = ((("fence", 0, 1), 3), (("fence", 1, 1), 3), (("swap", 0, 0), 2))
+WEIGHTS = (((0, 0, 1), 2), ((1, 0, 1), 3))
+FENCED = (TWO[0][:1] + (("fence",), ("fence",)) + TWO[0][1:], TWO[1][:1] + (("fence",),) + TWO[1][1:])
 
 CALLS = (
     (stories.story_of, {"program": TWO, "buffers": LINE, "run": RUN}),
@@ -42,37 +46,64 @@ CALLS = (
     (tearing.tearing_run, {"program": MIXED, "buffers": LANES}),
     (tearing.shows_tearing, {"program": TWO, "buffers": LINE, "value": RUN}),
     (tearing.shows_tearing, {"program": TWO, "buffers": LINE, "value": TWISTED}),
+    (remedies.is_remedies, {"program": TWO, "value": CURE}),
+    (remedies.is_remedies, {"program": TWO, "value": TWISTED}),
+    (remedies.cuts, {"remedy": ("swap", 0, 0), "pair": (0, 0, 1)}),
+    (remedies.applied, {"program": TWO, "remedies": CURE}),
+    (remedies.shows_cure, {"program": TWO, "buffers": LINE, "value": CURE}),
+    (remedies.shows_cure, {"program": TWO, "buffers": LINE, "value": TWISTED}),
+    (remedies.fewest, {"program": MESSAGE, "buffers": LANES, "word": "swap"}),
+    (remedies.apart, {"program": MESSAGE, "buffers": LANES, "word": "fence"}),
+    (remedies.shows_apart, {"program": TWO, "buffers": LINE, "word": "fence", "value": ((0, 0, 1), (1, 0, 1))}),
+    (remedies.shows_apart, {"program": TWO, "buffers": LINE, "word": "swap", "value": TWISTED}),
+    (prices.is_price_list, {"program": TWO, "value": PRICES}),
+    (prices.is_price_list, {"program": TWO, "value": TWISTED}),
+    (prices.cheapest, {"program": TWO, "buffers": LINE, "price_list": PRICES}),
+    (prices.weights, {"program": TWO, "buffers": LINE, "price_list": PRICES}),
+    (prices.shows_weights, {"program": TWO, "buffers": LINE, "price_list": PRICES, "total": 5, "value": WEIGHTS}),
+    (prices.shows_weights, {"program": TWO, "buffers": LINE, "price_list": PRICES, "total": TWISTED, "value": TWISTED}),
+    (needless.needless_fences, {"program": FENCED, "buffers": LINE}),
+    (needless.thinned, {"program": FENCED, "buffers": LANES}),
+    (exploring.story_count, {"program": TWO, "buffers": LANES}),
+    (exploring.stories, {"program": TWO, "buffers": LANES}),
+    (exploring.plain_count, {"program": TWO}),
 )
+
+
+def answer(function, *given, **named):
+    """What a call gives, all that it gives if it is a generator."""
+    found = function(*given, **named)
+    return tuple(found) if inspect.isgenerator(found) else found
 
 
 class Conventions(unittest.TestCase):
     def test_names_in_any_order(self):
         for function, given in CALLS:
-            wanted = function(*given.values())
+            wanted = answer(function, *given.values())
             self.assertEqual(list(given), list(inspect.signature(function).parameters))
+            for named in permuted(given):
+                self.assertEqual(wanted, answer(function, **named))
             names = list(given)
             for many in range(len(names)):
-                for turned in (names[many:] + names[:many], names[::-1]):
-                    self.assertEqual(wanted, function(**{name: given[name] for name in turned}))
                 left = {name: given[name] for name in names[many:][::-1]}
-                self.assertEqual(wanted, function(*[given[name] for name in names[:many]], **left))
+                self.assertEqual(wanted, answer(function, *[given[name] for name in names[:many]], **left))
 
     def test_equal_calls(self):
         for function, given in CALLS:
-            first = function(**given)
+            first = answer(function, **given)
             for _ in range(2):
-                self.assertEqual(repr(first), repr(function(**given)))
-                self.assertEqual(repr(first), repr(function(**copy.deepcopy(given))))
+                self.assertEqual(repr(first), repr(answer(function, **given)))
+                self.assertEqual(repr(first), repr(answer(function, **copy.deepcopy(given))))
 
     def test_arguments_stay(self):
         for function, given in CALLS:
             before = copy.deepcopy(given)
-            function(**given)
+            answer(function, **given)
             self.assertEqual(repr(before), repr(given))
 
     def test_only_tuples_and_plain_values(self):
         for function, given in CALLS:
-            found = function(**given)
+            found = answer(function, **given)
             self.assertTrue(type(found) is bool or is_all_tuples(found), function)
 
     def test_errors_twice(self):
@@ -83,6 +114,12 @@ class Conventions(unittest.TestCase):
                 pairs.ring_for(pair=TWISTED, buffers=LINE, program=TWO)
             self.assertIs(TWISTED, held.exception.pair)
             self.assertEqual((["do", 0], {"a": [1, (2, {})]}, []), TWISTED)
+            self.assertRaises(TooLong, remedies.applied, remedies=(("fence", 0, 0),), program=GREATEST)
+            for function in (needless.needless_fences, needless.thinned):
+                self.assertRaises(Unfaithful, function, buffers=LINE, program=TWO)
+            self.assertRaises(TooMany, exploring.story_count, buffers=LINE, program=GREATEST)
+            self.assertRaises(TooMany, next, exploring.stories(buffers=LINE, program=GREATEST))
+            self.assertRaises(TooMany, exploring.plain_count, program=GREATEST)
 
     def test_what_was_returned_may_be_passed_back(self):
         run = tearing.tearing_run(MESSAGE, LANES)
@@ -94,3 +131,15 @@ class Conventions(unittest.TestCase):
             self.assertIs(True, pairs.shows_ring(MESSAGE, pair, ring))
         story = stories.story_of(TWO, LINE, RUN)
         self.assertIs(True, stories.shows_story_ring(TWO, story, stories.story_ring(TWO, story)))
+
+    def test_cures_may_be_passed_back(self):
+        for word in ("fence", "swap"):
+            cure = remedies.fewest(MESSAGE, LANES, word)
+            self.assertIs(True, remedies.shows_cure(MESSAGE, LANES, cure))
+            self.assertIs(True, pairs.is_faithful(remedies.applied(MESSAGE, cure), LANES))
+            self.assertIs(True, remedies.shows_apart(MESSAGE, LANES, word, remedies.apart(MESSAGE, LANES, word)))
+        total, cure = prices.cheapest(TWO, LINE, PRICES)
+        self.assertIs(True, remedies.shows_cure(TWO, LINE, cure))
+        self.assertIs(True, prices.shows_weights(TWO, LINE, PRICES, total, prices.weights(TWO, LINE, PRICES)))
+        for story in exploring.stories(TWO, LINE):
+            self.assertIs(True, stories.is_story(TWO, story))

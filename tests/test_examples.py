@@ -85,6 +85,37 @@ TEARING = '''
 '''
 
 
+REMEDIES = '''
+>>> from ringfences.remedies import applied, apart, cuts, fewest, shows_cure
+>>> [fewest(TWO, LINE, "fence"), fewest(TWO, LINE, "swap"), apart(TWO, LINE, "fence")]
+[(('fence', 0, 1), ('fence', 1, 1)), (('swap', 0, 0), ('swap', 1, 0)), ((0, 0, 1), (1, 0, 1))]
+>>> [applied(MESSAGE, (("fence", 0, 1), ("swap", 0, 1)))[0], cuts(("swap", 0, 1), (0, 0, 1)), shows_cure(MESSAGE, LANES, (("swap", 0, 1),)), shows_cure(TWO, LINE, (("fence", 0, 1),))]
+[(('store', 'x'), ('fence',), ('swap', 'y')), True, True, False]
+'''
+
+PRICES = '''
+>>> from ringfences.prices import cheapest, shows_weights, weights
+>>> PRICES = ((("fence", 0, 1), 3), (("fence", 1, 1), 3), (("swap", 0, 0), 2))
+>>> [cheapest(TWO, LINE, PRICES), weights(TWO, LINE, PRICES), cheapest(TWO, LINE, PRICES[:1])]
+[(5, (('fence', 1, 1), ('swap', 0, 0))), (((0, 0, 1), 2), ((1, 0, 1), 3)), None]
+>>> [shows_weights(TWO, LINE, PRICES, 4, (((0, 0, 1), 1), ((1, 0, 1), 3))), shows_weights(TWO, LINE, PRICES, 6, (((0, 0, 1), 3), ((1, 0, 1), 3)))]
+[True, False]
+'''
+
+NEEDLESS = '''
+>>> from ringfences.needless import needless_fences, thinned
+>>> FENCED = ((("store", "x"), ("fence",), ("fence",), ("load", "y")), (("store", "y"), ("fence",), ("load", "x"), ("fence",)))
+>>> [needless_fences(FENCED, LINE), thinned(FENCED, LINE)]
+[((0, 1), (0, 2), (1, 3)), ((('store', 'x'), ('fence',), ('load', 'y')), (('store', 'y'), ('fence',), ('load', 'x')))]
+'''
+
+EXPLORING = '''
+>>> from ringfences.exploring import plain_count, stories, story_count
+>>> [story_count(TWO, LINE), plain_count(TWO), story_count(MESSAGE, LINE), story_count(MESSAGE, LANES), STORY in list(stories(TWO, LINE))]
+[4, 3, 3, 4, True]
+'''
+
+
 class Examples(unittest.TestCase):
     def check(self, text, many, *ahead):
         names = {}
@@ -117,3 +148,15 @@ class Examples(unittest.TestCase):
 
     def test_tearing(self):
         self.check(TEARING, 2, FACTS)
+
+    def test_remedies(self):
+        self.check(REMEDIES, 2)
+
+    def test_prices(self):
+        self.check(PRICES, 2)
+
+    def test_needless(self):
+        self.check(NEEDLESS, 1)
+
+    def test_exploring(self):
+        self.check(EXPLORING, 1, RUNS, STORIES)

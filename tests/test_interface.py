@@ -59,8 +59,32 @@ INTERFACE = {
         "tearing_run": ["program", "buffers"],
         "shows_tearing": ["program", "buffers", "value"],
     },
+    "remedies": {
+        "is_remedies": ["program", "value"],
+        "cuts": ["remedy", "pair"],
+        "applied": ["program", "remedies"],
+        "shows_cure": ["program", "buffers", "value"],
+        "fewest": ["program", "buffers", "word"],
+        "apart": ["program", "buffers", "word"],
+        "shows_apart": ["program", "buffers", "word", "value"],
+    },
+    "prices": {
+        "is_price_list": ["program", "value"],
+        "cheapest": ["program", "buffers", "price_list"],
+        "weights": ["program", "buffers", "price_list"],
+        "shows_weights": ["program", "buffers", "price_list", "total", "value"],
+    },
+    "needless": {
+        "needless_fences": ["program", "buffers"],
+        "thinned": ["program", "buffers"],
+    },
+    "exploring": {
+        "story_count": ["program", "buffers"],
+        "stories": ["program", "buffers"],
+        "plain_count": ["program"],
+    },
 }
-GENERATORS = ["walk"]
+GENERATORS = ["walk", "stories"]
 LIBRARY = ("heapq", "math", "itertools", "collections", "__future__")
 
 
