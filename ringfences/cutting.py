@@ -63,9 +63,9 @@ def best_way(reaches, ways, spot):
 
 def greatest_weights(pairs, priced):
     """Weights, ascending, whose sum is that of cheapest_cut; each pair is cut by one of the remedies."""
-    # The pairs are gone through by their ends. A pair takes all that its remedies have left: of two
-    # pairs that share a remedy, the one that ends later has all remedies behind it that the other
-    # one has, so that a remedy behind the shared one, taken instead, would serve no pair better.
+    # The pairs that end first take all that their remedies have left. With less for such a pair, no
+    # two later ones could have more: what shares a remedy with it is also cut by its remedies
+    # behind that one, so that both would need the same of what it left.
     left = {remedy: price for remedy, price in priced}
     found = []
     for late, thread, early in sorted([(late, thread, early) for thread, early, late in pairs]):

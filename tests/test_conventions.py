@@ -4,8 +4,11 @@ import copy
 import inspect
 import unittest
 
-from ringfences import exploring, facts, needless, pairs, prices, remedies, stories, tearing
+from ringfences import exploring, facts, machine, needless, pairs, prices, remedies, stories, tearing, texts
+from ringfences.desk import Desk
 from ringfences.errors import Incomplete, NotLive, TooLong, TooMany, Unfaithful
+from ringfences.guards import Guard
+from ringfences.machine import Machine, Trial
 from tests.helper import GREATEST, LANES, LINE, MESSAGE, MIXED, THREE, TWO
 from tests.helper import is_all_tuples, permuted
 
@@ -67,6 +70,52 @@ CALLS = (
     (exploring.story_count, {"program": TWO, "buffers": LANES}),
     (exploring.stories, {"program": TWO, "buffers": LANES}),
     (exploring.plain_count, {"program": TWO}),
+    (texts.parse_program, {"text": "thread store a; fence\nthread"}),
+    (texts.parse_run, {"text": "do 0\nflush 0 x"}),
+    (texts.parse_remedies, {"program": TWO, "text": "fence 1 1\nswap 0 0"}),
+)
+# These return strings.
+WRITTEN = (
+    (texts.format_program, {"program": FENCED}),
+    (texts.format_run, {"run": RUN}),
+    (texts.format_remedies, {"remedies": CURE}),
+    (texts.listing, {"program": TWO, "buffers": LINE, "run": RUN}),
+)
+
+
+def guard():
+    return Guard(TWO, CURE)
+
+
+def made():
+    return Machine.replayed(TWO, LINE, RUN[:3])
+
+
+def desk():
+    kept = Desk()
+    kept.say("line 4 thread store x; load y / thread store y; load x")
+    return kept
+
+
+# Objects, what is called of them, and the arguments.
+METHODS = (
+    (guard, "is_within", {"other": guard()}),
+    (guard, "left", {"buffers": LINE}),
+    (guard, "cost", {"price_list": PRICES}),
+    (guard, "least", {"buffers": LINE}),
+    (guard, "program_now", {}),
+    (made, "do", {"step": RUN[3]}),
+    (made, "__call__", {"step": RUN[3]}),
+    (made, "replayed", {"program": MESSAGE, "buffers": LANES, "run": RUN[:1]}),
+    (made, "undo", {}),
+    (made, "possible", {}),
+    (made, "facts", {}),
+    (made, "is_torn", {}),
+    (made, "is_complete", {}),
+    (made, "finish", {}),
+    (made, "copy", {}),
+    (desk, "say", {"line": "run"}),
+    (desk, "say", {"line": "lanes 16 thread fence"}),
 )
 
 
@@ -78,7 +127,7 @@ def answer(function, *given, **named):
 
 class Conventions(unittest.TestCase):
     def test_names_in_any_order(self):
-        for function, given in CALLS:
+        for function, given in CALLS + WRITTEN:
             wanted = answer(function, *given.values())
             self.assertEqual(list(given), list(inspect.signature(function).parameters))
             for named in permuted(given):
@@ -89,14 +138,14 @@ class Conventions(unittest.TestCase):
                 self.assertEqual(wanted, answer(function, *[given[name] for name in names[:many]], **left))
 
     def test_equal_calls(self):
-        for function, given in CALLS:
+        for function, given in CALLS + WRITTEN:
             first = answer(function, **given)
             for _ in range(2):
                 self.assertEqual(repr(first), repr(answer(function, **given)))
                 self.assertEqual(repr(first), repr(answer(function, **copy.deepcopy(given))))
 
     def test_arguments_stay(self):
-        for function, given in CALLS:
+        for function, given in CALLS + WRITTEN:
             before = copy.deepcopy(given)
             answer(function, **given)
             self.assertEqual(repr(before), repr(given))
@@ -105,6 +154,8 @@ class Conventions(unittest.TestCase):
         for function, given in CALLS:
             found = answer(function, **given)
             self.assertTrue(type(found) is bool or is_all_tuples(found), function)
+        for function, given in WRITTEN:
+            self.assertIs(str, type(function(**given)))
 
     def test_errors_twice(self):
         for _ in range(2):
@@ -143,3 +194,48 @@ class Conventions(unittest.TestCase):
         self.assertIs(True, prices.shows_weights(TWO, LINE, PRICES, total, prices.weights(TWO, LINE, PRICES)))
         for story in exploring.stories(TWO, LINE):
             self.assertIs(True, stories.is_story(TWO, story))
+
+
+class Objects(unittest.TestCase):
+    def test_names_in_any_order(self):
+        for maker, name, given in METHODS:
+            wanted = getattr(maker(), name)(*given.values())
+            for named in permuted(given):
+                self.assertEqual(wanted, getattr(maker(), name)(**named), name)
+            for many in range(len(given)):
+                left = {key: given[key] for key in list(given)[many:][::-1]}
+                self.assertEqual(wanted, getattr(maker(), name)(*list(given.values())[:many], **left), name)
+
+    def test_made_by_names(self):
+        self.assertEqual(guard(), Guard(remedies=CURE, program=TWO))
+        self.assertEqual(Machine(TWO, LINE), Machine(buffers=LINE, program=TWO))
+        self.assertEqual(made(), Machine.replayed(run=RUN[:3], buffers=LINE, program=TWO))
+        held = made()
+        with Trial(machine=held) as one:
+            self.assertIs(held, one)
+        for named in permuted({"machine": held, "look": lambda one: one.finish()}):
+            self.assertEqual(3, machine.tried(**named))
+
+    def test_what_does_not_change(self):
+        for maker, name, given in METHODS:
+            if name in ("do", "__call__", "undo", "finish", "say"):
+                continue
+            before, kept = maker(), maker()
+            arguments = repr({key: value for key, value in given.items() if key != "other"})
+            first = getattr(kept, name)(**given)
+            self.assertEqual(first, getattr(kept, name)(**given))
+            self.assertEqual(before, kept)
+            self.assertEqual(arguments, repr({key: value for key, value in given.items() if key != "other"}))
+
+    def test_calls_that_raise_change_nothing(self):
+        kept, talked = made(), desk()
+        for act in (
+            lambda: kept.do(("do", 7)), lambda: kept(TWISTED), lambda: kept[9], kept.story,
+            lambda: machine.tried(kept, lambda one: (one.finish(), one.do(("do", 0)))),
+            lambda: talked.say("line 4 thread x"), lambda: talked.say("undo"), lambda: talked.say(TWISTED),
+            lambda: guard() + TWISTED, lambda: guard() - ("fence", 0, 0), lambda: Guard(TWISTED), lambda: Machine(TWO, TWISTED),
+        ):
+            self.assertRaises(ValueError, act)
+            self.assertEqual(made(), kept)
+            self.assertEqual("0/0 0/0 | x=- y=-", talked.say("state"))
+            self.assertEqual((["do", 0], {"a": [1, (2, {})]}, []), TWISTED)

@@ -116,6 +116,40 @@ EXPLORING = '''
 '''
 
 
+GUARDS = '''
+>>> from ringfences.guards import Guard
+>>> GUARD = Guard(TWO) + ("fence", 0, 1) + ("swap", 1, 0) + ("fence", 1, 2)
+>>> [len(GUARD), GUARD.left(LINE), GUARD.least(LINE).remedies, Guard(TWO).is_within(GUARD), ("swap", 1, 0) in GUARD, (GUARD - ("fence", 0, 1)).left(LINE)]
+[3, (), (('fence', 0, 1), ('swap', 1, 0)), True, True, ((0, 0, 1),)]
+'''
+
+MACHINE = '''
+>>> from ringfences.machine import Machine, tried
+>>> M = Machine(TWO, LINE)
+>>> [M.do(("do", 0)), M(("do", 0)), M.do(("do", 1)), M.is_torn(), M.possible(), tried(M, lambda one: one.finish()), len(M)]
+[None, ((2, 0), ((0,), ()), (None, None)), None, False, (('do', 1), ('flush', 0, 'x'), ('flush', 1, 'y')), 3, 3]
+>>> [M.finish(), M.is_complete(), M.is_torn(), M[3], M.undo()]
+[3, True, False, ('flush', 0, 'x'), ('do', 1)]
+'''
+
+TEXTS = r'''
+>>> from ringfences.texts import format_program, listing, parse_program, parse_remedies
+>>> [format_program(TWO), parse_program("thread store a; fence\nthread")]
+['thread store x; load y\nthread store y; load x', ((('store', 'a'), ('fence',)), ())]
+>>> [parse_remedies(TWO, "fence 0 1\nswap 1 0"), listing(MESSAGE, LANES, (("do", 0), ("flush", 0, "x")))]
+[(('fence', 0, 1), ('swap', 1, 0)), '  0 | start          | 0/0 0/0 | x=- y=-\n  1 | do 0           | 1/1 0/0 | x=- y=-\n  2 | flush 0 x      | 1/0 0/0 | x=0.0 y=-']
+>>> parse_program("thread store a; store")
+raises BadText(row=0)
+'''
+
+DESK = '''
+>>> from ringfences.desk import Desk
+>>> DESK = Desk()
+>>> [DESK.say("line 4 thread store x; load y / thread store y; load x"), DESK.say("pairs"), DESK.say("steps"), DESK.say("do 0"), DESK.say("state"), DESK.say("fences"), DESK.say("faithful")]
+['done', '0.0.1 1.0.1', '4', 'done', '1/1 0/0 | x=- y=-', '2', 'no']
+'''
+
+
 class Examples(unittest.TestCase):
     def check(self, text, many, *ahead):
         names = {}
@@ -160,3 +194,15 @@ class Examples(unittest.TestCase):
 
     def test_exploring(self):
         self.check(EXPLORING, 1, RUNS, STORIES)
+
+    def test_guards(self):
+        self.check(GUARDS, 1)
+
+    def test_machine(self):
+        self.check(MACHINE, 2)
+
+    def test_texts(self):
+        self.check(TEXTS, 3)
+
+    def test_desk(self):
+        self.check(DESK, 1)

@@ -83,6 +83,38 @@ INTERFACE = {
         "stories": ["program", "buffers"],
         "plain_count": ["program"],
     },
+    "machine": {
+        "tried": ["machine", "look"],
+    },
+    "texts": {
+        "format_program": ["program"],
+        "format_run": ["run"],
+        "format_remedies": ["remedies"],
+        "parse_program": ["text"],
+        "parse_run": ["text"],
+        "parse_remedies": ["program", "text"],
+        "listing": ["program", "buffers", "run"],
+    },
+}
+# The methods of each class that are called by their names, and the arguments behind the object.
+CLASSES = {
+    ("guards", "Guard"): {
+        "__init__": ["program", "remedies"], "is_within": ["other"], "left": ["buffers"], "cost": ["price_list"],
+        "least": ["buffers"], "program_now": [],
+    },
+    ("machine", "Machine"): {
+        "__init__": ["program", "buffers"], "do": ["step"], "__call__": ["step"], "undo": [], "possible": [],
+        "facts": [], "is_torn": [], "is_complete": [], "story": [], "finish": [], "copy": [],
+    },
+    ("machine", "Trial"): {"__init__": ["machine"], "__enter__": []},
+    ("desk", "Desk"): {"__init__": [], "say": ["line"]},
+}
+# What is listed besides, by signs and as attributes.
+SIGNS = {
+    ("guards", "Guard"): ["__len__", "__contains__", "__add__", "__sub__", "__eq__", "program", "remedies"],
+    ("machine", "Machine"): ["__len__", "__getitem__", "__eq__", "replayed", "program", "buffers", "state", "steps"],
+    ("machine", "Trial"): ["__exit__"],
+    ("desk", "Desk"): [],
 }
 GENERATORS = ["walk", "stories"]
 LIBRARY = ("heapq", "math", "itertools", "collections", "__future__")
@@ -116,6 +148,30 @@ class Interface(unittest.TestCase):
             ]
             for function in functions:
                 self.assertEqual(1, defined.count(function), function)
+
+    def test_methods_and_arguments(self):
+        for (name, title), methods in CLASSES.items():
+            found = getattr(importlib.import_module("ringfences." + name), title)
+            for method, wanted in methods.items():
+                parameters = list(inspect.signature(getattr(found, method)).parameters.values())
+                self.assertEqual(["self"] + wanted, [parameter.name for parameter in parameters], method)
+                for parameter in parameters:
+                    self.assertIs(inspect.Parameter.POSITIONAL_OR_KEYWORD, parameter.kind, method)
+                    default = () if (method, parameter.name) == ("__init__", "remedies") else inspect.Parameter.empty
+                    self.assertEqual(default, parameter.default, method)
+        replayed = getattr(importlib.import_module("ringfences.machine"), "Machine").replayed
+        self.assertEqual(["program", "buffers", "run"], list(inspect.signature(replayed).parameters))
+
+    def test_classes_are_defined_in_their_files(self):
+        for name, title in CLASSES:
+            nodes = [
+                node for node in ast.parse(text_of(name + ".py")).body
+                if isinstance(node, ast.ClassDef) and node.name == title
+            ]
+            self.assertEqual(1, len(nodes), title)
+            defined = [node.name for node in nodes[0].body if isinstance(node, ast.FunctionDef)]
+            for method in list(CLASSES[name, title]) + SIGNS[name, title]:
+                self.assertEqual(1, defined.count(method), (title, method))
 
     def test_generators(self):
         for name, functions in INTERFACE.items():
